@@ -2,7 +2,7 @@
 
 from anywriting.errors import TooMany
 from anywriting.lines import line_on, tiles_of
-from anywriting.machines import made_by_state
+from anywriting.machines import follow, made_by_state
 from anywriting.ratios import line_through, minus, plus, product_of, reduced, worth_of
 from anywriting.ways import states_from, way_on, way_to
 from anywriting.writings import least_writing
@@ -22,8 +22,6 @@ def is_bent_beside(machine, lines, x, side):
     state = 0
     seen = {}
     while (state, top) not in seen:
-        if lines[state] is not None:
-            return False
         seen[(state, top)] = True
         tile, _, state = tiles_of(machine, state)[tile_beside(machine.base, top, bottom, side)]
         top = machine.base * top - tile * bottom
@@ -42,11 +40,10 @@ def tile_beside(base, top, bottom, side):
 
 
 def bent_edges(machine, lines):
-    """The pairs (tile, next) of each state that is not straight that lead to such a state."""
+    """For each state the pairs (tile, next) that lead to states that are not straight: none for a straight one."""
     edges = []
     for state in range(len(lines)):
-        pairs = [] if lines[state] is not None else tiles_of(machine, state)
-        edges.append([(pair[0], pair[-1]) for pair in pairs if lines[pair[-1]] is None])
+        edges.append([(tile, after) for tile, _, after in tiles_of(machine, state) if lines[after] is None])
     return edges
 
 
@@ -58,29 +55,36 @@ def crowd_of(machine, lines):
     way leads; else there is always a crowd where the shortest way round leads.
     """
     edges = bent_edges(machine, lines)
+    done = {}
     for state in states_from(edges, [0]):
-        turn = way_on(edges, state, {state: True})
+        turn = None if state in done else way_on(edges, state, {state: True})
         if turn is not None:
             x = worth_of(machine.base, way_to(edges, 0, {state: True}), turn)
             if is_crowd_of(machine, lines, x):
                 return x
+            for met in states_on(machine, state, turn):
+                done[met] = True
     return None
+
+
+def states_on(machine, state, digits):
+    """The states behind each beginning of the digits."""
+    return [follow(machine, state, digits[:many])[1] for many in range(len(digits))]
 
 
 def pieces_of(machine, lines):
     """The list of triples (end, slope, height) of what state 0 makes, where there is no crowd."""
     edges = bent_edges(machine, lines)
     found = {state: [((1, 1), known[0], known[1])] for state, known in enumerate(lines) if known is not None}
-    for state in states_from(edges, [0]):
-        turn = way_on(edges, state, {state: True})
-        if turn is not None:
-            found[state] = two_pieces(machine, state, worth_of(machine.base, (), turn))
     todo = [0]
     while len(todo) > 0:
         state = todo[-1]
+        turn = way_on(edges, state, {state: True})
         missing = [after for _, after in edges[state] if after not in found]
         if state in found:
             todo.pop()
+        elif turn is not None:
+            found[state] = two_pieces(machine, state, worth_of(machine.base, (), turn))
         elif len(missing) > 0:
             todo.append(missing[0])
         else:

@@ -13,27 +13,19 @@ def lines_of(machine):
     lows = made_of_digit(machine, 1 - machine.base)
     heights = made_of_digit(machine, 0)
     highs = made_of_digit(machine, machine.base - 1)
-    guesses = []
-    for state, height in enumerate(heights):
-        rise = minus(highs[state], lows[state])
-        guesses.append((reduced(rise[0], 2 * rise[1]), height))
-    wrong = [state for state in range(len(guesses)) if not is_kept(machine, guesses, state)]
+    rises = [minus(high, low) for low, high in zip(lows, highs)]
+    # A state that leads only to states of one rise rises so from each number of few digits to the next one.
+    wrong = [state for state in range(len(rises)) if not is_even(machine, rises, state)]
     bent = leading_to(edges_of(machine), wrong)
-    return [None if state in bent else guess for state, guess in enumerate(guesses)]
+    found = []
+    for state, (top, bottom) in enumerate(rises):
+        found.append(None if state in bent else (reduced(top, 2 * bottom), heights[state]))
+    return found
 
 
-def is_kept(machine, guesses, state):
-    """Whether the state makes what its guess tells, if the states behind each digit make what theirs tell."""
-    slope, height = guesses[state]
-    start = (machine.base * height[0], height[1])
-    for place, (item, after) in enumerate(machine.rows[state]):
-        digit = place + 1 - machine.base
-        next_slope, next_height = guesses[after]
-        if next_slope != slope:
-            return False
-        if plus(start, (slope[0] * digit, slope[1])) != plus((item, 1), next_height):
-            return False
-    return True
+def is_even(machine, rises, state):
+    """Whether the states behind all digits rise, from the least number to the greatest, as much as the state."""
+    return all([rises[after] == rises[state] for _, after in machine.rows[state]])
 
 
 def tiles_of(machine, state):

@@ -4,10 +4,8 @@ from math import gcd, lcm
 
 
 def reduced(top, bottom):
-    """The fraction that is top divided by bottom, an integer other than 0."""
+    """The fraction that is top divided by bottom, an integer above 0."""
     common = gcd(top, bottom)
-    if bottom < 0:
-        common = -common
     return (top // common, bottom // common)
 
 
@@ -24,7 +22,7 @@ def product_of(one, other):
 
 
 def quotient(one, other):
-    """One divided by other, which is not 0."""
+    """One divided by other, which is above 0."""
     return reduced(one[0] * other[1], one[1] * other[0])
 
 

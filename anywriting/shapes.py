@@ -115,8 +115,6 @@ def line_between(machine, x, y):
 def climb(machine):
     check_sound(machine)
     lines = lines_of(machine)
-    if lines[0] is not None:
-        return reduced(2 * abs(lines[0][0][0]), lines[0][0][1])
     common = 1
     for slope in slopes_met(machine, lines):
         common = lcm(common, slope[1])

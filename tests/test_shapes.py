@@ -155,6 +155,17 @@ class Dents(Case):
             machine = learned(base, broken([(Fraction(x), Fraction(y)) for x, y in points]))
             self.assert_flag(True, is_dent(machine, dent(machine)))
 
+    def test_dents_at_the_inner_end_of_one_stretch_alone(self):
+        for base in BASES:
+            step = Fraction(1, base)
+            rises = [(2, -6, 1), (2, 9, 1), (7, -3, 6), (-1, 8, -2)]
+            for one, two, three in rises:
+                points = [(Fraction(-1), Fraction(0)), (-1 + step, one * step), (-1 + 2 * step, (one + two) * step)]
+                points.append((Fraction(1), points[-1][1] + three * (2 - 2 * step)))
+                for turned in (points, [(-x, y) for x, y in points[::-1]]):
+                    told = dent(learned(base, broken(turned)))
+                    self.assertTrue(self.above(broken(turned), [frac(x) for x in told]))
+
     def test_is_dent_of_drawn_numbers(self):
         for base in BASES:
             rng = Random(10 + base)

@@ -259,9 +259,9 @@ class Beginning(Case):
     def test_just_2000_beginnings_and_some_more(self):
         # 0 has 2 * many + 1 beginnings, 1 / base ** k a few less.
         found = {}
-        for base in BASES:
-            for x in [Fraction(0)] + [Fraction(1, base ** k) for k in (1, 2, 3)]:
-                for many in range(990, 1001):
+        for base in (2, 5):
+            for x in [Fraction(0)] + [Fraction(1, base ** k) for k in (1, 2)]:
+                for many in (998, 999, 1000):
                     found.setdefault(many_beginnings(base, pair(x), many), (base, x, many))
         base, x, many = found[2000]
         told = beginnings(base, pair(x), many)
@@ -277,7 +277,7 @@ class Beginning(Case):
     def test_many_beginnings_of_1000_digits(self):
         for base in BASES:
             self.assertEqual(many_beginnings(base, (0, 1), 1000), 2001)
-            for x in some_numbers(base, 60 + base, 3):
+            for x in some_numbers(base, 60 + base, 3)[3::4]:
                 counts = {x: 1}
                 for _ in range(1000):
                     after = {}
