@@ -164,6 +164,19 @@ class Likeness(Case):
                 one, other = rng.choice(machines), rng.choice(machines)
                 yield retold(one, rng), retold(other, rng), parts(one) == parts(other)
 
+    def test_functions_that_part_on_the_first_stretch_and_not_on_the_last(self):
+        # The first and the last digit lead to one pair of states; only the first one parts.
+        for base in BASES[1:]:
+            end = 1 - Fraction(2, base)
+            for low, high in ((2 * base, 0), (0, 2 * base)):
+                points = [(Fraction(-1), Fraction(low)), (-end, Fraction(low)), (end, Fraction(high))]
+                points.append((Fraction(1), Fraction(high)))
+                one, other = lined(base, (0, 1), (0, 1)), learned(base, broken(points), 60)
+                for some, more in ((one, other), (other, one)):
+                    word, thing = likeness(some, more)
+                    self.assertEqual(word, "parting")
+                    self.assertNotEqual(made_by_sum(some, thing), made_by_sum(more, thing))
+
     def otherwise_on_a_short_stretch(self, base, points, machine):
         low = 1 - Fraction(2, base ** 4)
         bump = [(Fraction(-1), Fraction(0)), (low, Fraction(0)), (Fraction(1), Fraction(1, base ** 3))]

@@ -84,6 +84,16 @@ class Soundness(Case):
         self.assertGreater(words.count("flaw"), 40)
         self.assertGreater(words.count("sound"), 2)
 
+    def test_flaws_of_many_machines(self):
+        rng = Random(1)
+        for _ in range(3000):
+            base = rng.choice(BASES)
+            machine = rng.choice(sound_machines(base))[1]
+            machine = changed(machine, rng) if rng.randrange(2) else drawn_machine(base, rng.randrange(1, 5), rng, 2)
+            word, thing = soundness(machine)
+            if word == "flaw":
+                self.assert_right_flaw(machine, thing)
+
     def assert_right_flaw(self, machine, thing):
         state, one, other = thing
         for row in (one, other):
