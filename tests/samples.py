@@ -434,7 +434,8 @@ def retold(machine, rng):
     if rng.randrange(2):
         other = learned(machine.base, straight(Fraction(rng.randrange(-50, 50)), Fraction(1, 2)))
         told = joined(told, other)
-    told = lifted(told, [rng.randrange(-9, 10) for _ in told.rows])
+    size = rng.choice((9, 9, 10 ** 11))
+    told = lifted(told, [rng.randrange(-size, size + 1) for _ in told.rows])
     return shuffled(told, rng)
 
 

@@ -15,7 +15,7 @@ from checks import Case
 from samples import (
     BASES, TooManyStates, absolute_machine, added, broken, changed, doubled, drawn_broken, drawn_number,
     drawn_writing, floor, frac, joined, learned, lifted, made_by_sum, odd_things, pair, retold, shuffled,
-    sound_machines, straight, unsound_machine,
+    sound_machines, straight, unsound_machine, ways_to_states,
 )
 
 
@@ -370,23 +370,10 @@ class Least(Case):
             for _, machine in sound_machines(base):
                 if len(machine.rows) > 6:
                     continue
-                rows = {zoom(machine, digits).rows for many in range(4) for digits in product((1 - base, 0, 1), repeat=many)}
-                self.assertLessEqual(len(rows), left(machine))
-                ways = self.ways(machine)
-                rows = {zoom(machine, digits).rows for digits in ways}
+                some = [digits for many in range(4) for digits in product((1 - base, 0, 1), repeat=many)]
+                self.assertLessEqual(len({zoom(machine, digits).rows for digits in some}), left(machine))
+                rows = {zoom(machine, digits).rows for digits in ways_to_states(machine).values()}
                 self.assertEqual(len(rows), left(retold(machine, rng)))
-
-    def ways(self, machine):
-        """For each state digits that lead to it."""
-        ways = {0: ()}
-        todo = [0]
-        while todo:
-            state = todo.pop()
-            for place, (_, after) in enumerate(machine.rows[state]):
-                if after not in ways:
-                    ways[after] = ways[state] + (place + 1 - machine.base,)
-                    todo.append(after)
-        return list(ways.values())
 
     def test_unsound(self):
         for f in (least, left):

@@ -86,7 +86,8 @@ class Falls(Case):
         self.assert_flag(True, is_fall(machine, (x, y)))
         self.assert_flag(True, is_fall(machine, (y, z)))
         wrong = [
-            (y, x), (x, x), [x, y], (x,), (x, y, z), (x, (-2, 4)), ((-2, 2), y), ((-2, 1), y), ((-3, 2), z), (y, (3, 2)),
+            (y, x), (x, x), [x, y], (x,), (x, y, z), (x, (-2, 4)), ((-2, 2), y), ((-2, 1), y), ((-3, 2), z),
+            (y, (3, 2)),
             (x, [-1, 2]), (x, None), (None, y), (x, 0), (-1, 0), x, ((-1, True), y), (x, (False, 1)), ((0, 1), (1, 1)),
             ((-1, 2), (1, 2)), ((-1, 2), (2, 3)),
         ]
@@ -149,7 +150,7 @@ class Dents(Case):
         self.assertIsNone(dent(joined(absolute_machine(), hill)))
 
     def test_slopes_that_fall_far_apart(self):
-        # Each slope is but a little above the next one's, or far from it: flat, steep, flat.
+        # Flat, steep, flat.
         for base in BASES:
             points = [(-1, 0), (0, 0), (Fraction(1, base), 1), (1, 1)]
             machine = learned(base, broken([(Fraction(x), Fraction(y)) for x, y in points]))
@@ -432,7 +433,8 @@ class Pieces(Case):
 
     def test_bends_where_first_digits_meet_and_where_they_do_not(self):
         for base in BASES:
-            for bend in (Fraction(0), Fraction(1, base), Fraction(1, base + 1), Fraction(-1, base - 1) if base > 2 else 0):
+            last = Fraction(-1, base - 1) if base > 2 else Fraction(-1, 3)
+            for bend in (Fraction(0), Fraction(1, base), Fraction(1, base + 1), last):
                 machine = learned(base, lambda x: abs(x - bend), 60)
                 known = (
                     (pair(bend), (-1, 1), pair(bend)), ((1, 1), (1, 1), pair(-bend)),
