@@ -52,46 +52,59 @@ def least(machine):
 def least_from(machine, start, first):
     """The least machine of first and what the state start of a sound machine makes, added."""
     lifts = [floor_of(height) for height in made_of_digit(machine, 0)]
-    states = states_from(edges_of(machine), [start])
-    rows = {state: lifted_row(machine, lifts, state) for state in states}
-    groups = grouped(rows)
-    speakers = {groups[state]: state for state in states}
+    rows = {state: machine.rows[state] for state in states_from(edges_of(machine), [start])}
+    lifted = lifted_rows(machine.base, rows, lifts)
+    groups = grouped(lifted, {state: 0 for state in rows}, len(rows))
+    return numbered(machine.base, first + lifts[start], start, lifted, groups)
+
+
+def lifted_rows(base, rows, lifts):
+    """The rows of a dict when each state makes less by its lift."""
+    found = {}
+    for state, row in rows.items():
+        taken = base * lifts[state]
+        found[state] = [(item - taken + lifts[after], after) for item, after in row]
+    return found
+
+
+def grouped(rows, marks, most):
+    """For each state the number of its group: states of one group tell the same of all digits for ever.
+
+    States of unlike marks are known to be unlike. TooMany if there are more groups than the most.
+    """
+    groups = marks
+    many = len(set(list(marks.values())))
+    while True:
+        signs = {}
+        finer = {}
+        for state, row in rows.items():
+            sign = (groups[state], tuple([(item, groups[after]) for item, after in row]))
+            finer[state] = signs.setdefault(sign, len(signs))
+        if len(signs) > most:
+            raise TooMany(most)
+        if len(signs) == many:
+            return finer
+        groups = finer
+        many = len(signs)
+
+
+def numbered(base, first, start, rows, groups):
+    """The machine whose states are the groups, numbered as they are come to from that of the start."""
+    speakers = {group: state for state, group in groups.items()}
     numbers = {groups[start]: 0}
     order = [groups[start]]
     told_rows = []
     while len(told_rows) < len(order):
-        speaker = speakers[order[len(told_rows)]]
         row = []
-        for item, after in rows[speaker]:
+        pairs = rows[speakers[order[len(told_rows)]]]
+        for item, after in pairs:
             group = groups[after]
             if group not in numbers:
                 numbers[group] = len(order)
                 order.append(group)
             row.append((item, numbers[group]))
         told_rows.append(tuple(row))
-    return Machine(machine.base, first + lifts[start], tuple(told_rows))
-
-
-def lifted_row(machine, lifts, state):
-    """The row of the state when each state makes less by its lift."""
-    taken = machine.base * lifts[state]
-    return [(item - taken + lifts[after], after) for item, after in machine.rows[state]]
-
-
-def grouped(rows):
-    """For each state the number of its group: states of one group tell the same of all digits for ever."""
-    groups = {state: 0 for state in rows}
-    many = 1
-    while True:
-        signs = {}
-        finer = {}
-        for state, row in rows.items():
-            sign = tuple([(item, groups[after]) for item, after in row])
-            finer[state] = signs.setdefault(sign, len(signs))
-        if len(signs) == many:
-            return finer
-        groups = finer
-        many = len(signs)
+    return Machine(base, first, tuple(told_rows))
 
 
 def is_least(thing):

@@ -28,6 +28,20 @@ def is_even(machine, rises, state):
     return all([rises[after] == rises[state] for _, after in machine.rows[state]])
 
 
+def straight_states(lines, slope):
+    """A dict of the straight states of this slope."""
+    return {state: True for state, found in enumerate(lines) if found is not None and found[0] == slope}
+
+
+def first_slopes(edges, lines, found):
+    """For each state the first one of the slopes found to which it leads."""
+    firsts = {}
+    for slope in found:
+        for state in leading_to(edges, list(straight_states(lines, slope))):
+            firsts.setdefault(state, slope)
+    return firsts
+
+
 def tiles_of(machine, state):
     """The triples (tile, told, next) of the state, tiles ascending."""
     row = machine.rows[state]

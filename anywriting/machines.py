@@ -1,8 +1,9 @@
 """Machines, and what they tell and make of writings (2.1 and 2.2)."""
 
+from anywriting.choices import worths_of
 from anywriting.errors import BadMachine, NoDigits, NoState, NoWriting
 from anywriting.kinds import are_digits, is_base, is_integer, is_integer_within, is_tuple_of
-from anywriting.ratios import plus, reduced, worth_of
+from anywriting.ratios import plus, worth_of
 from anywriting.writings import is_row_of_digits, shortest
 
 
@@ -122,19 +123,4 @@ def made_by_machine(machine, writing):
 def made_of_digit(machine, digit):
     """For each state what it makes of the writing that has the digit at all places."""
     place = digit + machine.base - 1
-    found = {}
-    for state in range(len(machine.rows)):
-        way = []
-        at = state
-        while at not in found:
-            way.append(at)
-            # A guess ends the walk where it comes round; it is set right below.
-            found[at] = None
-            at = machine.rows[at][place][1]
-        if found[at] is None:
-            found[at] = made_by_state(machine, at, ((), (digit,)))
-        for step in reversed(way):
-            item, after = machine.rows[step][place]
-            top, bottom = found[after]
-            found[step] = reduced(item * bottom + top, machine.base * bottom)
-    return [found[state] for state in range(len(machine.rows))]
+    return worths_of(machine.base, machine.rows, [place] * len(machine.rows))

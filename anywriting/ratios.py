@@ -38,6 +38,10 @@ def floor_of(one):
     return one[0] // one[1]
 
 
+def ceiling_of(one):
+    return -(-one[0] // one[1])
+
+
 def ascending(fractions):
     """The fractions by their size, each once."""
     common = 1

@@ -5,23 +5,18 @@ from math import lcm
 from anywriting.crowds import bent_edges, crowd_of, is_crowd_of, pieces_of
 from anywriting.errors import NoNumber
 from anywriting.kinds import is_tuple_of
-from anywriting.lines import line_on, lines_of, tiles_of
+from anywriting.lines import first_slopes, line_on, lines_of, straight_states, tiles_of
 from anywriting.ratios import height_at, is_below, line_through, plus, reduced, worth_of
 from anywriting.solving import solved
 from anywriting.soundness import check_sound, value_at
 from anywriting.straight import slopes_met
-from anywriting.ways import edges_of, leading_to, states_from, way_to
+from anywriting.ways import edges_of, states_from, way_to
 from anywriting.writings import check_number, is_number
 
 
 def stretch_of(base, digits):
     """The least and the greatest number that can be written with these digits at the beginning."""
     return worth_of(base, digits, (1 - base,)), worth_of(base, digits, (base - 1,))
-
-
-def straight_states(lines, slope):
-    """A dict of the straight states of this slope."""
-    return {state: True for state, found in enumerate(lines) if found is not None and found[0] == slope}
 
 
 def fall(machine):
@@ -76,15 +71,6 @@ def dent(machine):
                 above = way + way_through(edges, lines, tiles[k + 1], flat)
                 return dent_between(machine, below, above)
     return None
-
-
-def first_slopes(edges, lines, found):
-    """For each state the first one of the slopes found to which it leads."""
-    firsts = {}
-    for slope in found:
-        for state in leading_to(edges, list(straight_states(lines, slope))):
-            firsts.setdefault(state, slope)
-    return firsts
 
 
 def way_through(edges, lines, tile, slope):

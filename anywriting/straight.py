@@ -29,8 +29,12 @@ def slopes(machine):
 
 def slopes_met(machine, lines):
     """The ascending list of the slopes of the straight states that can be come to from 0."""
-    met = [lines[state] for state in states_from(edges_of(machine), [0])]
-    return ascending([found[0] for found in met if found is not None])
+    return slopes_of([lines[state] for state in states_from(edges_of(machine), [0])])
+
+
+def slopes_of(lines):
+    """The ascending list of the slopes of a list of lines, None in it for what is not straight."""
+    return ascending([found[0] for found in lines if found is not None])
 
 
 def steepest(machine):
