@@ -4,8 +4,13 @@ import inspect
 from importlib import import_module
 from unittest import main
 
+from anywriting.dusts import Dust, barred_at, bounds, holds
+from anywriting.greater import amount
+from anywriting.hands import fair
 from anywriting.least import least, left, lined
 from anywriting.machines import Machine
+from anywriting.means import area
+from anywriting.most import greatest
 from anywriting.shapes import climb, line_between, pieces
 from anywriting.soundness import soundness, value
 from anywriting.straight import road, rough, slopes, steepest
@@ -14,6 +19,7 @@ from checks import Case
 
 V = Machine(2, 0, (((1, 2), (0, 0), (1, 1)), ((-1, 1), (0, 1), (1, 1)), ((1, 2), (0, 2), (-1, 2))))
 H = lined(2, (1, 1), (0, 1))
+C = Dust(3, (((-2, 0), (2, 0)),))
 
 INTERFACE = {
     "writings": {
@@ -30,6 +36,15 @@ INTERFACE = {
     "shapes": {
         "fall": 1, "dent": 1, "crowd": 1, "pieces": 1, "is_fall": 2, "is_dent": 2, "is_crowd": 2, "line_between": 3,
         "climb": 1,
+    },
+    "sums": {"added": 2, "times": 2, "raised": 2, "mirrored": 1},
+    "greater": {"greater": 2, "lesser": 2, "amount": 1},
+    "inner": {"put_in": 2},
+    "most": {"greatest": 1, "lowest": 1, "is_prices": 2, "prices": 1},
+    "means": {"area": 1, "mean": 2},
+    "hands": {"ensured": 4, "best_choices": 3, "fair": 2},
+    "dusts": {
+        "Dust": 2, "holds": 2, "way_in": 2, "barred_at": 2, "bounds": 1, "between": 3, "either": 2, "common": 2,
     },
 }
 
@@ -50,6 +65,7 @@ class Examples(Case):
         self.assertEqual(value(V, (-1, 3)), (1, 3))
 
     def test_e04(self):
+        self.assertEqual(least(V) == amount(H), True)
         self.assertEqual(left(V), 3)
         rows = (((-1, 1), (0, 0), (0, 2)), ((1, 0), (1, 2), (1, 1)), ((0, 2), (0, 1), (1, 0)))
         self.assertEqual(lined(2, (1, 3), (0, 1)).rows, rows)
@@ -66,6 +82,16 @@ class Examples(Case):
         self.assertEqual(climb(V), (2, 1))
         self.assertEqual(line_between(V, (0, 1), (1, 2)), ((1, 1), (0, 1)))
 
+    def test_e07(self):
+        self.assertEqual(greatest(V)[0], (1, 1))
+        self.assertEqual(area(V), (1, 1))
+        self.assertEqual(fair(H, (True, False)), (1, 3))
+
+    def test_e08(self):
+        self.assertEqual([holds(C, (1, 2)), holds(C, (0, 1))], [True, False])
+        self.assertEqual(barred_at(C, (0, 1)), 1)
+        self.assertEqual(bounds(C), ((-1, 1), (1, 1)))
+
 
 class Interface(Case):
     def test_each_name_is_defined_in_its_file_with_its_arguments(self):
@@ -79,6 +105,11 @@ class Interface(Case):
     def test_a_machine_has_its_own_equality_and_attributes(self):
         self.assertIn("__eq__", vars(Machine))
         self.assertEqual((V.base, V.first, len(V.rows)), (2, 0, 3))
+
+    def test_a_dust_has_its_own_equality_and_attributes(self):
+        self.assertIn("__eq__", vars(Dust))
+        self.assertEqual((C.base, C.rows), (3, (((-2, 0), (2, 0)),)))
+        self.assertEqual(C, Dust(3, (((-2, 0), (2, 0)),)))
 
 
 if __name__ == "__main__":
