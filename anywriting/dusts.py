@@ -4,11 +4,11 @@ from anywriting.choices import played
 from anywriting.errors import BadDust, NoNumber, OtherBase
 from anywriting.kinds import is_base, is_digit, is_tuple_of
 from anywriting.machines import is_index
-from anywriting.ratios import ceiling_of, floor_of, is_below, reduced
+from anywriting.pictures import WIDEST
+from anywriting.ratios import is_below
+from anywriting.stretches import rows_between
 from anywriting.webs import endless, first_way, folded, longest, web_from
 from anywriting.writings import check_base, check_number, is_number, shortest
-
-WIDEST = 2
 
 
 class Dust:
@@ -47,32 +47,6 @@ class Readings:
             if abs(left) <= self.bottom:
                 found.append((digit, (after, left)))
         return found
-
-
-class Stretches:
-    """Keys (low, high) of two numbers: those from low to high, and of each of them one writing at least.
-
-    The web has few keys, and ways lead to few neighbouring integers, so that there are few unlike pictures: of all
-    writings of an end one alone goes on and on, with as few unlike remainders as there can be.
-    """
-
-    def __init__(self, base):
-        self.base = base
-
-    def pairs(self, key):
-        base = self.base
-        low, high = key
-        first = floor_of((base * low[0], low[1])) + 1
-        last = ceiling_of((base * high[0], high[1])) - 1
-        # All lie from one integer to the next one: one digit is enough, that nearer to 0, as the other may be none.
-        if first > last:
-            first = last = min(first - 1, base - 1) if low[0] >= 0 else max(last + 1, 1 - base)
-        return [(digit, (self.behind(low, digit), self.behind(high, digit))) for digit in range(first, last + 1)]
-
-    def behind(self, end, digit):
-        """Where the end is, seen from the digit, or how far the numbers behind the digit go, if that is nearer."""
-        top = self.base * end[0] - digit * end[1]
-        return reduced(max(-end[1], min(end[1], top)), end[1])
 
 
 class Unions:
@@ -159,7 +133,7 @@ def between(base, x, y):
     check_number(x)
     if not is_number(y) or is_below(y, x):
         raise NoNumber()
-    return Dust(base, folded(web_from((x, y), Stretches(base)), (x, y)))
+    return Dust(base, rows_between(base, x, y))
 
 
 def check_bases(one, other):

@@ -3,6 +3,11 @@
 
 def web_from(start, guide):
     """The web of all keys that can be come to from the start; guide.pairs(key) tells what leads on from a key."""
+    return web_within(start, guide, None)
+
+
+def web_within(start, guide, most):
+    """As web_from, but None if there are more keys than the most."""
     web = {}
     keys = [start]
     seen = {start: True}
@@ -13,6 +18,8 @@ def web_from(start, guide):
             if after not in seen:
                 seen[after] = True
                 keys.append(after)
+        if most is not None and len(keys) > most:
+            return None
     return web
 
 
