@@ -2,7 +2,8 @@
 
 from fractions import Fraction
 
-from anywriting.dusts import Dust
+from anywriting.dusts import Dust, between, either
+from samples import drawn_number, pair
 
 
 def drawn_dust(base, nodes, rng, ways=3):
@@ -114,3 +115,58 @@ def pictures(dust, most=10 ** 6):
         if len(seen) > most:
             break
     return len(seen)
+
+
+def joint(parts):
+    """The dust of the numbers that are in one of the parts, of one base, or more."""
+    found = parts[0]
+    for part in parts[1:]:
+        found = either(found, part)
+    return found
+
+
+def stretches_dust(base, intervals):
+    """The dust of the numbers in some of these intervals, pairs of Fractions."""
+    return joint([between(base, pair(low), pair(high)) for low, high in intervals])
+
+
+def merged(intervals):
+    """The intervals ascending, those that meet made one."""
+    found = []
+    for low, high in sorted(intervals):
+        if found and low <= found[-1][1]:
+            found[-1] = (found[-1][0], max(high, found[-1][1]))
+        else:
+            found.append((low, high))
+    return found
+
+
+def drawn_intervals(rng, most=20):
+    """One to three intervals that do not meet, ascending, some of them single numbers."""
+    found = []
+    for _ in range(rng.randrange(1, 4)):
+        low, high = sorted([drawn_number(rng, most) for _ in range(2)])
+        found.append((low, low) if rng.randrange(5) == 0 else (low, high))
+    return merged(found)
+
+
+def numbers_near(base, intervals, rng):
+    """Numbers at the ends of the intervals, near by, within them, and elsewhere."""
+    found = [Fraction(-1), Fraction(0), Fraction(1)] + [drawn_number(rng, 30) for _ in range(6)]
+    for low, high in intervals:
+        found += [low, high, (low + high) / 2, low + (high - low) / 7]
+        for end in (low, high):
+            found += [end - Fraction(1, base ** many) for many in (2, 6, 20)]
+            found += [end + Fraction(1, base ** many) for many in (2, 6, 20)]
+    return [x for x in found if -1 <= x <= 1]
+
+
+def least_far(dust, x, many=40):
+    """How far x is from the nearest number in the dust, within the base's power of so many."""
+    level = {(0, Fraction(0))}
+    for place in range(1, many + 1):
+        step = Fraction(1, dust.base ** place)
+        after = {(beyond, top + digit * step) for node, top in level for digit, beyond in dust.rows[node]}
+        nearest = min([abs(top - x) for _, top in after])
+        level = {(node, top) for node, top in after if abs(top - x) <= nearest + 2 * step}
+    return min([abs(top - x) for _, top in level])

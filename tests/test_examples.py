@@ -4,13 +4,16 @@ import inspect
 from importlib import import_module
 from unittest import main
 
+from anywriting.distances import distance
 from anywriting.dusts import Dust, barred_at, bounds, holds
+from anywriting.fillings import filled
 from anywriting.greater import amount
 from anywriting.hands import fair
 from anywriting.least import least, left, lined
 from anywriting.machines import Machine
 from anywriting.means import area
 from anywriting.most import greatest
+from anywriting.readers import Reader
 from anywriting.shapes import climb, line_between, pieces
 from anywriting.soundness import soundness, value
 from anywriting.straight import road, rough, slopes, steepest
@@ -46,7 +49,13 @@ INTERFACE = {
     "dusts": {
         "Dust": 2, "holds": 2, "way_in": 2, "barred_at": 2, "bounds": 1, "between": 3, "either": 2, "common": 2,
     },
+    "fillings": {"filled": 1, "stretch": 1},
+    "distances": {"distance": 1, "outside": 2, "apart": 2},
+    "images": {"noughts": 1, "image": 2, "behind": 2, "standing": 1},
+    "readers": {"Reader": 1},
 }
+
+METHODS = ((Reader, {"tell": 1, "digits": 0, "state": 0, "stretch": 0, "back": 0, "copy": 0}),)
 
 
 class Examples(Case):
@@ -91,6 +100,13 @@ class Examples(Case):
         self.assertEqual([holds(C, (1, 2)), holds(C, (0, 1))], [True, False])
         self.assertEqual(barred_at(C, (0, 1)), 1)
         self.assertEqual(bounds(C), ((-1, 1), (1, 1)))
+        self.assertEqual(filled(C), (0, 1))
+
+    def test_e09(self):
+        d = distance(C)
+        self.assertEqual(value(d, (0, 1)), (1, 3))
+        self.assertEqual(slopes(d), ((-1, 1), (1, 1)))
+        self.assertEqual((climb(d), pieces(d)), ((2, 1), None))
 
 
 class Interface(Case):
@@ -110,6 +126,11 @@ class Interface(Case):
         self.assertIn("__eq__", vars(Dust))
         self.assertEqual((C.base, C.rows), (3, (((-2, 0), (2, 0)),)))
         self.assertEqual(C, Dust(3, (((-2, 0), (2, 0)),)))
+
+    def test_each_method_is_defined_in_its_class(self):
+        for kind, names in METHODS:
+            for name, many in names.items():
+                self.assertEqual(len(inspect.signature(vars(kind)[name]).parameters), many + 1, name)
 
 
 if __name__ == "__main__":

@@ -1,0 +1,123 @@
+"""Dusts of what machines make of numbers, and of the numbers of which they make something (7.5)."""
+
+from anywriting.dusts import Dust, check_bases
+from anywriting.least import least_from
+from anywriting.most import extremes
+from anywriting.ratios import ceiling_of, floor_of, minus
+from anywriting.soundness import check_sound
+from anywriting.webs import endless, folded, web_from
+
+
+class Values:
+    """What a sound machine's states make, and how far this goes.
+
+    In the keys of all webs here the integer lift says how much more than a state makes is to be written by what is
+    beside it; only those lifts are kept at which this can be.
+    """
+
+    def __init__(self, machine):
+        least = least_from(machine, 0, machine.first)
+        self.base = least.base
+        self.first = least.first
+        self.rows = least.rows
+        self.lows = extremes(least, -1)
+        self.highs = extremes(least, 1)
+
+    def moves(self, state, lift):
+        """For each digit, ascending, the triple of it, the next state and the next lift, if nothing is written."""
+        found = []
+        for place, (item, after) in enumerate(self.rows[state]):
+            found.append((place + 1 - self.base, after, self.base * lift + item))
+        return found
+
+    def meets(self, state, lift, low, high):
+        """Whether what the state makes, lifted, may be one of the fractions from low to high."""
+        lowest = ceiling_of(minus(low, self.highs[state]))
+        return lowest <= lift <= floor_of(minus(high, self.lows[state]))
+
+
+class Equals:
+    """Keys (state, lift): the numbers at which the value is 0 (times 0), or the number itself (times 1)."""
+
+    def __init__(self, values, times):
+        self.values = values
+        self.times = times
+
+    def pairs(self, key):
+        found = []
+        for digit, after, lift in self.values.moves(key[0], key[1]):
+            left = lift - self.times * digit
+            if self.values.meets(after, left, (-self.times, 1), (self.times, 1)):
+                found.append((digit, (after, left)))
+        return found
+
+
+class Images:
+    """Keys (node, state, lift): what the state makes of the ways from the node, lifted, is written."""
+
+    def __init__(self, values, dust):
+        self.values = values
+        self.dust_rows = dust.rows
+
+    def pairs(self, key):
+        node, state, lift = key
+        base = self.values.base
+        moves = self.values.moves(state, lift)
+        found = []
+        for own, beside in self.dust_rows[node]:
+            _, after, lifted = moves[own + base - 1]
+            for digit in range(1 - base, base):
+                if self.values.meets(after, lifted - digit, (-1, 1), (1, 1)):
+                    found.append((digit, (beside, after, lifted - digit)))
+        return found
+
+
+class Sources:
+    """Keys (state, node, lift): the numbers of which the state makes, lifted, what ways from the node write."""
+
+    def __init__(self, values, dust):
+        self.values = values
+        self.dust_rows = dust.rows
+
+    def pairs(self, key):
+        state, node, lift = key
+        found = []
+        for digit, after, lifted in self.values.moves(state, lift):
+            for own, beside in self.dust_rows[node]:
+                if self.values.meets(after, lifted - own, (-1, 1), (1, 1)):
+                    found.append((digit, (after, beside, lifted - own)))
+        return found
+
+
+def dust_of(base, start, guide):
+    """The dust of all ways without end from the start, or None."""
+    web = endless(web_from(start, guide))
+    if start not in web:
+        return None
+    return Dust(base, folded(web, start))
+
+
+def noughts(machine):
+    check_sound(machine)
+    values = Values(machine)
+    return dust_of(machine.base, (0, values.first), Equals(values, 0))
+
+
+def standing(machine):
+    check_sound(machine)
+    values = Values(machine)
+    return dust_of(machine.base, (0, values.first), Equals(values, 1))
+
+
+def image(machine, dust):
+    check_bases(machine, dust)
+    check_sound(machine)
+    values = Values(machine)
+    return dust_of(machine.base, (0, 0, values.first), Images(values, dust))
+
+
+def behind(machine, dust):
+    check_bases(machine, dust)
+    check_sound(machine)
+    values = Values(machine)
+    return dust_of(machine.base, (0, 0, values.first), Sources(values, dust))
