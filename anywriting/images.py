@@ -1,4 +1,7 @@
-"""Dusts of what machines make of numbers, and of the numbers of which they make something (7.5)."""
+"""Dusts of what machines make of numbers, and of the numbers of which they make something (7.5).
+
+What is written here is written by tiles alone: each number can be, and so the dusts have fewer nodes.
+"""
 
 from anywriting.dusts import Dust, check_bases
 from anywriting.least import least_from
@@ -23,12 +26,13 @@ class Values:
         self.lows = extremes(least, -1)
         self.highs = extremes(least, 1)
 
-    def moves(self, state, lift):
-        """For each digit, ascending, the triple of it, the next state and the next lift, if nothing is written."""
-        found = []
-        for place, (item, after) in enumerate(self.rows[state]):
-            found.append((place + 1 - self.base, after, self.base * lift + item))
-        return found
+    def move(self, state, lift, digit):
+        """The pair of the next state and the next lift, if nothing is written."""
+        item, after = self.rows[state][digit + self.base - 1]
+        return after, self.base * lift + item
+
+    def tiles(self):
+        return range(1 - self.base, self.base, 2)
 
     def meets(self, state, lift, low, high):
         """Whether what the state makes, lifted, may be one of the fractions from low to high."""
@@ -44,11 +48,13 @@ class Equals:
         self.times = times
 
     def pairs(self, key):
+        state, lift = key
         found = []
-        for digit, after, lift in self.values.moves(key[0], key[1]):
-            left = lift - self.times * digit
+        for tile in self.values.tiles():
+            after, lifted = self.values.move(state, lift, tile)
+            left = lifted - self.times * tile
             if self.values.meets(after, left, (-self.times, 1), (self.times, 1)):
-                found.append((digit, (after, left)))
+                found.append((tile, (after, left)))
         return found
 
 
@@ -61,14 +67,12 @@ class Images:
 
     def pairs(self, key):
         node, state, lift = key
-        base = self.values.base
-        moves = self.values.moves(state, lift)
         found = []
         for own, beside in self.dust_rows[node]:
-            _, after, lifted = moves[own + base - 1]
-            for digit in range(1 - base, base):
-                if self.values.meets(after, lifted - digit, (-1, 1), (1, 1)):
-                    found.append((digit, (beside, after, lifted - digit)))
+            after, lifted = self.values.move(state, lift, own)
+            for tile in self.values.tiles():
+                if self.values.meets(after, lifted - tile, (-1, 1), (1, 1)):
+                    found.append((tile, (beside, after, lifted - tile)))
         return found
 
 
@@ -82,10 +86,11 @@ class Sources:
     def pairs(self, key):
         state, node, lift = key
         found = []
-        for digit, after, lifted in self.values.moves(state, lift):
+        for tile in self.values.tiles():
+            after, lifted = self.values.move(state, lift, tile)
             for own, beside in self.dust_rows[node]:
                 if self.values.meets(after, lifted - own, (-1, 1), (1, 1)):
-                    found.append((digit, (after, beside, lifted - own)))
+                    found.append((tile, (after, beside, lifted - own)))
         return found
 
 
