@@ -25,14 +25,12 @@ class Values:
         self.rows = least.rows
         self.lows = extremes(least, -1)
         self.highs = extremes(least, 1)
+        self.tiles = list(range(1 - least.base, least.base, 2))
 
     def move(self, state, lift, digit):
         """The pair of the next state and the next lift, if nothing is written."""
         item, after = self.rows[state][digit + self.base - 1]
         return after, self.base * lift + item
-
-    def tiles(self):
-        return range(1 - self.base, self.base, 2)
 
     def meets(self, state, lift, low, high):
         """Whether what the state makes, lifted, may be one of the fractions from low to high."""
@@ -44,16 +42,16 @@ class Equals:
     """Keys (state, lift): the numbers at which the value is 0 (times 0), or the number itself (times 1)."""
 
     def __init__(self, values, times):
-        self.values = values
+        self.made = values
         self.times = times
 
     def pairs(self, key):
         state, lift = key
         found = []
-        for tile in self.values.tiles():
-            after, lifted = self.values.move(state, lift, tile)
+        for tile in self.made.tiles:
+            after, lifted = self.made.move(state, lift, tile)
             left = lifted - self.times * tile
-            if self.values.meets(after, left, (-self.times, 1), (self.times, 1)):
+            if self.made.meets(after, left, (-self.times, 1), (self.times, 1)):
                 found.append((tile, (after, left)))
         return found
 
@@ -62,16 +60,16 @@ class Images:
     """Keys (node, state, lift): what the state makes of the ways from the node, lifted, is written."""
 
     def __init__(self, values, dust):
-        self.values = values
+        self.made = values
         self.dust_rows = dust.rows
 
     def pairs(self, key):
         node, state, lift = key
         found = []
         for own, beside in self.dust_rows[node]:
-            after, lifted = self.values.move(state, lift, own)
-            for tile in self.values.tiles():
-                if self.values.meets(after, lifted - tile, (-1, 1), (1, 1)):
+            after, lifted = self.made.move(state, lift, own)
+            for tile in self.made.tiles:
+                if self.made.meets(after, lifted - tile, (-1, 1), (1, 1)):
                     found.append((tile, (beside, after, lifted - tile)))
         return found
 
@@ -80,16 +78,16 @@ class Sources:
     """Keys (state, node, lift): the numbers of which the state makes, lifted, what ways from the node write."""
 
     def __init__(self, values, dust):
-        self.values = values
+        self.made = values
         self.dust_rows = dust.rows
 
     def pairs(self, key):
         state, node, lift = key
         found = []
-        for tile in self.values.tiles():
-            after, lifted = self.values.move(state, lift, tile)
+        for tile in self.made.tiles:
+            after, lifted = self.made.move(state, lift, tile)
             for own, beside in self.dust_rows[node]:
-                if self.values.meets(after, lifted - own, (-1, 1), (1, 1)):
+                if self.made.meets(after, lifted - own, (-1, 1), (1, 1)):
                     found.append((tile, (after, beside, lifted - own)))
         return found
 

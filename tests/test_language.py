@@ -110,6 +110,25 @@ class Language(TestCase):
                 if isinstance(node, ast.FunctionDef):
                     self.assertEqual(node.decorator_list, [], path)
 
+    def test_no_attribute_has_the_name_of_a_method_of_a_list_or_a_dict(self):
+        barred = set(
+            "items keys values pop update append clear extend insert remove reverse setdefault sort args encode decode "
+            "hex fromhex format".split()
+        )
+        for path, tree in self.trees():
+            for node in ast.walk(tree):
+                if isinstance(node, ast.Attribute) and isinstance(node.ctx, ast.Store):
+                    self.assertNotIn(node.attr, barred, (path, node.lineno))
+
+    def test_no_name_is_a_method_and_an_attribute_of_one_class(self):
+        for path, tree in self.trees():
+            for kind in [node for node in tree.body if isinstance(node, ast.ClassDef)]:
+                methods = [node.name for node in kind.body if isinstance(node, ast.FunctionDef)]
+                self.assertEqual(len(methods), len(set(methods)), (path, kind.name))
+                for node in ast.walk(kind):
+                    if isinstance(node, ast.Attribute) and isinstance(node.ctx, ast.Store):
+                        self.assertNotIn(node.attr, methods, (path, kind.name))
+
     def test_no_string_has_a_barred_sign(self):
         for path in FILES:
             text = path.read_text(encoding="utf-8")
