@@ -2,7 +2,7 @@
 
 from anywriting.building import ends_of
 from anywriting.least import grouped, lifted_rows
-from anywriting.ratios import floor_of, minus, plus, reduced, worth_of
+from anywriting.ratios import floor_of, minus, plus, worth_of
 
 LEFT = 0
 RIGHT = 1

@@ -4,6 +4,7 @@ import inspect
 from importlib import import_module
 from unittest import main
 
+from anywriting.desks import Desk
 from anywriting.distances import distance
 from anywriting.dusts import Dust, barred_at, bounds, holds
 from anywriting.fillings import filled
@@ -17,6 +18,7 @@ from anywriting.readers import Reader
 from anywriting.shapes import climb, line_between, pieces
 from anywriting.soundness import soundness, value
 from anywriting.straight import road, rough, slopes, steepest
+from anywriting.texts import dust_text, row_text
 from anywriting.writings import beginnings, greatly, many_beginnings, worth, written
 from checks import Case
 
@@ -53,9 +55,16 @@ INTERFACE = {
     "distances": {"distance": 1, "outside": 2, "apart": 2},
     "images": {"noughts": 1, "image": 2, "behind": 2, "standing": 1},
     "readers": {"Reader": 1},
+    "strangers": {"known": 3},
+    "texts": {"row_text": 1, "machine_text": 1, "dust_text": 1},
+    "reading": {"read_row": 1, "read_machine": 1, "read_dust": 1},
+    "desks": {"Desk": 1},
 }
 
-METHODS = ((Reader, {"tell": 1, "digits": 0, "state": 0, "stretch": 0, "back": 0, "copy": 0}),)
+METHODS = (
+    (Reader, {"tell": 1, "digits": 0, "state": 0, "stretch": 0, "back": 0, "copy": 0}),
+    (Desk, {"tell": 1}),
+)
 
 
 class Examples(Case):
@@ -107,6 +116,10 @@ class Examples(Case):
         self.assertEqual(value(d, (0, 1)), (1, 3))
         self.assertEqual(slopes(d), ((-1, 1), (1, 1)))
         self.assertEqual((climb(d), pieces(d)), ((2, 1), None))
+
+    def test_e10(self):
+        self.assertEqual(row_text(((1,), (0, -1))), "1:0,-1")
+        self.assertEqual(dust_text(C), "dust 3\n-2>0 2>0\n")
 
 
 class Interface(Case):
