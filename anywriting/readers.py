@@ -16,8 +16,8 @@ class Reader:
         self.states = [0]
         # What is told so far, and first ahead of it, as integers to the base.
         self.tops = [machine.first]
-        self.lows = extremes(machine, -1)
-        self.highs = extremes(machine, 1)
+        # For each state the least and the most that it makes, once they are asked for.
+        self.ends = None
 
     def tell(self, digit):
         if not is_digit(self.machine.base, digit):
@@ -35,12 +35,16 @@ class Reader:
         return self.states[-1]
 
     def stretch(self):
-        bottom = power(self.machine.base, len(self.said))
-        found = []
-        for ends in (self.lows, self.highs):
-            top, below = plus((self.tops[-1], 1), ends[self.states[-1]])
-            found.append(reduced(top, below * bottom))
-        return (found[0], found[1])
+        if self.ends is None:
+            self.ends = list(zip(extremes(self.machine, -1), extremes(self.machine, 1)))
+        scale = power(self.machine.base, len(self.said))
+        low, high = self.ends[self.states[-1]]
+        return (self.placed(low, scale), self.placed(high, scale))
+
+    def placed(self, made, scale):
+        """What the machine makes if this is made behind all digits that were told."""
+        top, bottom = plus((self.tops[-1], 1), made)
+        return reduced(top, bottom * scale)
 
     def back(self):
         if len(self.said) == 0:
@@ -54,4 +58,5 @@ class Reader:
         twin.said = list(self.said)
         twin.states = list(self.states)
         twin.tops = list(self.tops)
+        twin.ends = self.ends
         return twin
